@@ -1,0 +1,1 @@
+"""A workbench for agreements among houses of which some fall."""
