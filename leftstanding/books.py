@@ -42,6 +42,11 @@ def is_an_integer(value):
     return isinstance(value, int) and not isinstance(value, bool)
 
 
+def is_place(value, many):
+    """Tell whether value is an integer from 0 to one less than many."""
+    return is_an_integer(value) and 0 <= value < many
+
+
 def is_tuple(value, least, most):
     """Tell whether value is a tuple of least to most items."""
     return isinstance(value, tuple) and least <= len(value) <= most
@@ -52,6 +57,11 @@ def is_word(value):
     if not isinstance(value, str) or not 1 <= len(value) <= MAX_SIGNS:
         return False
     return all(["a" <= sign <= "z" for sign in value])
+
+
+def is_ascending(items):
+    """Tell whether each of the items, which can be compared, is greater than the one ahead."""
+    return all([one < other for one, other in zip(items, items[1:])])
 
 
 def _book_error(book, house, houses):
@@ -88,14 +98,12 @@ def _is_row(value, kinds, house, houses):
         return False
     if not _are_pairs(takes, MAX_TAKES, house, houses) or not _are_pairs(sends, MAX_SENDS, house, houses):
         return False
-    return list(takes) == sorted(set(takes)) and len(set(sends)) == len(sends)
+    return is_ascending(takes) and len(set(sends)) == len(sends)
 
 
 def _leads(state, onto, kinds):
     """Tell whether a row may lead from state onto the state onto."""
-    if not is_an_integer(state) or not is_an_integer(onto):
-        return False
-    if not 0 <= state < onto < len(kinds):
+    if not is_place(onto, len(kinds)) or not is_place(state, onto):
         return False
     return kinds[onto] in ONTO_KINDS[kinds[state]]
 
@@ -110,6 +118,4 @@ def _is_pair(value, house, houses):
     if not is_tuple(value, 2, 2):
         return False
     other, word = value
-    if not is_an_integer(other) or not 0 <= other < houses:
-        return False
-    return other != house and is_word(word)
+    return is_place(other, houses) and other != house and is_word(word)

@@ -2,6 +2,8 @@
 
 import copy
 
+from leftstanding.errors import LeftError
+
 KINDS = ("open", "yes", "done", "off")
 YES = ("yes", "done", "off")
 
@@ -51,6 +53,51 @@ FULL = (
 TRIO = COIN + ((("open", "open", "off"), ((0, ((1, "x"),), 1, ((0, "y"), (1, "y")), False), (1, (), 2, (), True))),)
 AGREEMENTS = (COIN, AGREED, TRIO, FULL)
 
+ASKS = (KINDS, (
+    (0, (), 1, ((1, "ask"),), False),
+    (1, ((1, "ok"),), 2, ((1, "do"),), False),
+    (1, ((1, "no"),), 3, (), False),
+))
+TELLS = (KINDS, (
+    (0, ((0, "ask"),), 1, ((0, "ok"),), False),
+    (0, ((0, "ask"),), 3, ((0, "no"),), False),
+    (1, ((0, "do"),), 2, (), False),
+))
+PAIR = (ASKS, TELLS)
+LATE = ((KINDS, (ASKS[1][0], ASKS[1][1][:4] + (True,), ASKS[1][2])), TELLS)
+HASTY = ((KINDS, ((0, (), 1, ((1, "ask"),), False), (1, (), 2, (), False))), TELLS)
+DEAF = ((KINDS, ASKS[1][:2]), TELLS)
+
+LONE = (("open",) * 8, tuple((state, (), state + 1, (), False) for state in range(7)))
+
+
+def longest(late):
+    """Four houses, each of which does seven rows of six letters: no agreement has a run of more deeds."""
+    books = []
+    for house in range(4):
+        others = [other for other in range(4) if other != house]
+        sends = tuple((other, word) for word in ("b", "a") for other in others)
+        books.append((("yes",) * 8, tuple((state, (), state + 1, sends, late) for state in range(7))))
+    return tuple(books)
+
+
+# The names of the arguments, as the document tells them.
+ARGUMENTS = {
+    "agreement_error": "value",
+    "kind": "agreement house state",
+    "with_late": "agreement house k late",
+    "agreement_text": "agreement",
+    "read_agreement": "value",
+    "standing_error": "agreement value",
+    "begin": "agreement",
+    "deed_error": "agreement standing value",
+    "open_deeds": "agreement standing",
+    "after": "agreement standing deed",
+    "led": "agreement deeds",
+    "deeds_text": "deeds",
+    "read_deeds": "value",
+}
+
 
 def nested(depth, inner=()):
     """A tuple in a tuple, so many deep."""
@@ -88,3 +135,59 @@ def kept(call, *values):
     assert same(values, before), "what was handed in was changed"
     assert same(first, again), (first, again)
     return first
+
+
+def paths(value):
+    """The places, as tuples of indexes, of all that stands in nested tuples."""
+    found = [()]
+    if isinstance(value, tuple):
+        for place, item in enumerate(value):
+            found += [(place,) + path for path in paths(item)]
+    return found
+
+
+def at(value, path):
+    for place in path:
+        value = value[place]
+    return value
+
+
+def changed(value, path, new):
+    """The nested tuples with the new item at this path."""
+    if not path:
+        return new
+    place = path[0]
+    return value[:place] + (changed(value[place], path[1:], new),) + value[place + 1:]
+
+
+def outcome(call, places, names):
+    """What the call returns, or the class and the fields of the LeftError that it raises."""
+    try:
+        return ("returns", call(*places, **names))
+    except LeftError as error:
+        return ("raises", error.__class__.__name__, vars(error))
+
+
+def told(call, *values):
+    """The outcome of the call, by place and by names, and once more with equal values; these must stay as they are."""
+    before = copy.deepcopy(values)
+    first = outcome(call, values, {})
+    names = dict(reversed(list(zip(ARGUMENTS[call.__name__].split(), values, strict=True))))
+    for again in (outcome(call, (), names), outcome(call, copy.deepcopy(values), {})):
+        assert same(first, again), (first, again)
+    assert same(values, before), "what was handed in was changed"
+    return first
+
+
+def returned(call, *values):
+    """What the call returns, looked at as told does."""
+    found = told(call, *values)
+    assert found[0] == "returns", found
+    return found[1]
+
+
+def raised(call, *values):
+    """The name of the class of the error that the call raises, and its fields, looked at as told does."""
+    found = told(call, *values)
+    assert found[0] == "raises", found
+    return found[1:]

@@ -3,7 +3,8 @@ import unittest
 
 from leftstanding.books import agreement_error
 from samples import (
-    AGREEMENTS, COIN, FULL, FULL_KINDS, FULL_ROWS, FULL_SENDS, FULL_TAKES, KINDS, TRIO, any_values, kept, same,
+    AGREEMENTS, COIN, FULL, FULL_KINDS, FULL_ROWS, FULL_SENDS, FULL_TAKES, KINDS, TRIO, any_values, at, changed, kept,
+    paths, same,
 )
 
 LONE = (("open",), ())
@@ -311,29 +312,6 @@ class Rows(Case):
         many_takes, many_sends = FULL_TAKES + ((3, "c"),), FULL_SENDS + ((0, "b"),)
         for row in ((0, many_takes, 1, FULL_SENDS, True), (0, FULL_TAKES, 1, many_sends, True)):
             self.check(FULL[:2] + ((FULL_KINDS, (row,)),) + FULL[3:], ("row", 2, 0))
-
-
-def paths(value):
-    """The places, as tuples of indexes, of all that stands in nested tuples."""
-    found = [()]
-    if isinstance(value, tuple):
-        for place, item in enumerate(value):
-            found += [(place,) + path for path in paths(item)]
-    return found
-
-
-def at(value, path):
-    for place in path:
-        value = value[place]
-    return value
-
-
-def changed(value, path, new):
-    """The nested tuples with the new item at this path."""
-    if not path:
-        return new
-    place = path[0]
-    return value[:place] + (changed(value[place], path[1:], new),) + value[place + 1:]
 
 
 def is_text(value, pattern):
