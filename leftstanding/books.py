@@ -32,9 +32,13 @@ def kind(agreement, house, state):
 def with_late(agreement, house, k, late):
     """Return the agreement whose row k of the house is late, or not, as told."""
     kinds, rows = agreement[house]
-    row = rows[k][:4] + (late,)
-    book = (kinds, rows[:k] + (row,) + rows[k + 1:])
-    return agreement[:house] + (book,) + agreement[house + 1:]
+    row = put_at(rows[k], 4, late)
+    return put_at(agreement, house, (kinds, put_at(rows, k, row)))
+
+
+def put_at(items, place, item):
+    """Return the tuple with this item at the place, all else being as in items."""
+    return items[:place] + (item,) + items[place + 1:]
 
 
 def is_an_integer(value):

@@ -1,6 +1,6 @@
 """Deeds: which of them can be done in a standing, and the standing behind them."""
 
-from leftstanding.books import is_place, is_tuple
+from leftstanding.books import is_place, is_tuple, put_at
 from leftstanding.errors import Refused
 from leftstanding.standings import begin, houses_left
 
@@ -87,9 +87,9 @@ def _behind_row(agreement, standing, house, k):
     taken = [(sender, house, word) for sender, word in takes]
     letters = tuple([letter for letter in letters if letter not in taken])
     if sends:
-        doing = _put(doing, house, (k, 0))
+        doing = put_at(doing, house, (k, 0))
     if not sends or not late:
-        states = _put(states, house, onto)
+        states = put_at(states, house, onto)
     return (states, doing, letters, fallen)
 
 
@@ -103,19 +103,14 @@ def _behind_send(agreement, standing, house):
     if letter not in letters:
         letters = tuple(sorted(letters + (letter,)))
     if sent + 1 < len(sends):
-        doing = _put(doing, house, (k, sent + 1))
+        doing = put_at(doing, house, (k, sent + 1))
     else:
-        doing = _put(doing, house, ())
-        states = _put(states, house, onto)
+        doing = put_at(doing, house, ())
+        states = put_at(states, house, onto)
     return (states, doing, letters, fallen)
 
 
 def _behind_fall(standing, house):
     """Return the standing in which the house has fallen."""
     states, doing, letters, fallen = standing
-    return (states, _put(doing, house, ()), letters, tuple(sorted(fallen + (house,))))
-
-
-def _put(items, place, item):
-    """Return the tuple with this item at the place."""
-    return items[:place] + (item,) + items[place + 1:]
+    return (states, put_at(doing, house, ()), letters, tuple(sorted(fallen + (house,))))

@@ -1,7 +1,13 @@
 """Agreements and runs that the tests draw: always the same ones, as each comes from a number of its own."""
 
+import functools
+
 from leftstanding.books import agreement_error
-from model import Run
+from model import Run, all_standings
+from samples import (
+    AGREED, COIN, DEAF, HASTY, LATE, PAIR, READY, SPREAD, SPREAD_LATE, UNLIKE, WILLING, at, central, changed, everyone,
+    paths,
+)
 
 ONTO = {"open": ("open", "yes", "off"), "yes": ("yes", "done", "off"), "done": (), "off": ()}
 
@@ -82,3 +88,47 @@ def drawn_run(agreement, seed, most=200, falls=4):
         run.do(deed)
         deeds.append(deed)
     return tuple(deeds)
+
+
+BASES = (
+    COIN, AGREED, PAIR, LATE, HASTY, DEAF, UNLIKE, SPREAD, SPREAD_LATE, WILLING, READY, central(2), central(3),
+    everyone(2), everyone(3),
+)
+
+
+def drawn_variant(seed):
+    """An agreement that is made of a real one by some small changes."""
+    draw = Draw(seed)
+    agreement = draw.pick(BASES)
+    for _ in range(1 + draw.below(3)):
+        for _ in range(100):
+            other = slightly_changed(draw, agreement)
+            if other != agreement and agreement_error(other) is None:
+                agreement = other
+                break
+    return agreement
+
+
+def slightly_changed(draw, agreement):
+    """The value with one part changed; it may be no agreement."""
+    path = draw.pick(paths(agreement))
+    part = at(agreement, path)
+    if isinstance(part, bool):
+        return changed(agreement, path, not part)
+    if isinstance(part, tuple) and part and len(path) > 1:
+        place = draw.below(len(part))
+        return changed(agreement, path, part[:place] + part[place + 1:])
+    if isinstance(part, str):
+        return changed(agreement, path, draw.pick(("open", "yes", "done", "off", "do", "no")))
+    if isinstance(part, int):
+        return changed(agreement, path, draw.below(4))
+    return agreement
+
+
+@functools.lru_cache(maxsize=None)
+def small_ones(many, limit=500):
+    """Real agreements, and drawn ones of both kinds, to which not more standings than the limit come."""
+    drawn = tuple(drawn_variant(seed) for seed in range(many)) + tuple(drawn_agreements(many // 2))
+    return tuple(dict.fromkeys(
+        agreement for agreement in BASES + drawn if len(all_standings(agreement, len(agreement) - 1, limit)) <= limit
+    ))

@@ -1,5 +1,7 @@
 """Runs, worked out once more in another way than the program's: houses that change, and a bag of letters."""
 
+import functools
+
 
 def every_deed(agreement):
     """All deeds of the agreement, ascending, whether or not they can be done."""
@@ -81,8 +83,9 @@ def standings_of(agreement, deeds):
     return found
 
 
+@functools.lru_cache(maxsize=1000)
 def all_standings(agreement, most, limit=4000):
-    """All standings that come with so many falls at the most, wave by wave, each with the deeds of its road."""
+    """All standings that come with so many falls at the most, each with its road; somewhat more than the limit."""
     start = Run(agreement).standing()
     roads, wave = {start: ()}, [start]
     while wave and len(roads) <= limit:
@@ -97,3 +100,54 @@ def all_standings(agreement, most, limit=4000):
                     later.append(behind)
         wave = later
     return roads
+
+
+def seen(standing):
+    """What those left can know of the standing."""
+    states, doing, letters, fallen = standing
+    left = tuple(sorted(set(range(len(states))) - set(fallen)))
+    return (left, tuple(states[house] for house in left), tuple(doing[house] for house in left),
+            tuple(letter for letter in letters if letter[1] not in fallen))
+
+
+def kinds_in(agreement, standing):
+    return [kinds[state] for (kinds, _), state in zip(agreement, standing[0], strict=True)]
+
+
+def needs_done(agreement, standing):
+    return any(kind == "done" for kind in kinds_in(agreement, standing))
+
+
+def lets_done(agreement, standing):
+    return not any(kind in ("open", "off") for kind in kinds_in(agreement, standing))
+
+
+def lookalikes(agreement, most):
+    """The standings of each view, by their numbers."""
+    found = {}
+    for standing in all_standings(agreement, most):
+        found.setdefault(seen(standing), []).append(standing)
+    return found
+
+
+def first_twins(agreement, most):
+    """The first standings that are twins, None if there are none: each standing is held against each one."""
+    alike = lookalikes(agreement, most)
+    for one in all_standings(agreement, most):
+        if needs_done(agreement, one):
+            for other in alike[seen(one)]:
+                if not lets_done(agreement, other):
+                    return one, other
+    return None
+
+
+def told_table(agreement, most, bold):
+    """The pairs of the table, if there are no twins."""
+    rows = []
+    for own, standings in lookalikes(agreement, most).items():
+        if bold:
+            done = all(lets_done(agreement, standing) for standing in standings)
+        else:
+            done = any(needs_done(agreement, standing) for standing in standings)
+        rows.append((own, "done" if done else "off"))
+    return tuple(sorted(rows))

@@ -81,22 +81,121 @@ def longest(late):
     return tuple(books)
 
 
-# The names of the arguments, as the document tells them.
-ARGUMENTS = {
-    "agreement_error": "value",
-    "kind": "agreement house state",
-    "with_late": "agreement house k late",
-    "agreement_text": "agreement",
-    "read_agreement": "value",
-    "standing_error": "agreement value",
-    "begin": "agreement",
-    "deed_error": "agreement standing value",
-    "open_deeds": "agreement standing",
-    "after": "agreement standing deed",
-    "led": "agreement deeds",
-    "deeds_text": "deeds",
-    "read_deeds": "value",
+UNLIKE = ((("yes", "done"), ((0, (), 1, (), False),)), (("yes", "off"), ((0, (), 1, (), False),)))
+SPREAD = (
+    (YES, ((0, (), 1, ((1, "do"), (2, "do")), False), (0, (), 2, ((1, "off"), (2, "off")), False))), COIN[1], COIN[1],
+)
+
+
+# They clash, and too many standings come.
+CLASHING = UNLIKE + longest(False)[2:]
+# The house 0 writes its end behind its last letter only.
+SPREAD_LATE = ((YES, tuple(row[:4] + (True,) for row in SPREAD[0][1])),) + SPREAD[1:]
+# Nobody can end "off".
+WILLING = ((("yes", "done"), ((0, (), 1, ((1, "do"), (3, "do")), False),)),) + (
+    (("yes", "done"), ((0, ((0, "do"),), 1, (), False),)),) * 3
+# Nobody ends "done" before both are ready.
+READY = (
+    (("open", "yes", "yes", "done", "off"), (
+        (0, (), 1, ((1, "ask"),), False), (0, (), 4, ((1, "off"),), False),
+        (1, ((1, "yes"),), 2, ((1, "ready"),), False), (1, ((1, "no"),), 4, (), False),
+        (2, ((1, "got"),), 3, ((1, "done"),), False),
+    )),
+    (("open", "yes", "yes", "done", "off"), (
+        (0, ((0, "ask"),), 1, ((0, "yes"),), False), (0, ((0, "ask"),), 4, ((0, "no"),), False),
+        (0, ((0, "off"),), 4, (), False), (1, ((0, "ready"),), 2, ((0, "got"),), False),
+        (2, ((0, "done"),), 3, (), False),
+    )),
+)
+
+
+def central(houses):
+    """The house 0 asks all others, and tells them."""
+    others = range(1, houses)
+    zero = [(0, (), 1, to(others, "ask"), False), (0, (), 3, to(others, "off"), False)]
+    zero += [(1, to(others, "yes"), 2, to(others, "done"), False)]
+    zero += [(1, ((house, "no"),), 3, to(others, "off"), False) for house in others]
+    other = (
+        (0, ((0, "ask"),), 1, ((0, "yes"),), False), (0, ((0, "ask"),), 3, ((0, "no"),), False),
+        (0, ((0, "off"),), 3, (), False), (1, ((0, "done"),), 2, (), False), (1, ((0, "off"),), 3, (), False),
+    )
+    return ((KINDS, tuple(zero)),) + ((KINDS, other),) * (houses - 1)
+
+
+def everyone(houses):
+    """Each house tells all others."""
+    books = []
+    for own in range(houses):
+        others = [house for house in range(houses) if house != own]
+        rows = [(0, (), 1, to(others, "yes"), False), (0, (), 3, to(others, "no"), False)]
+        rows += [(1, to(others, "yes"), 2, (), False)]
+        rows += [(1, ((house, "no"),), 3, (), False) for house in others]
+        books.append((KINDS, tuple(rows)))
+    return tuple(books)
+
+
+def to(houses, word):
+    return tuple((house, word) for house in houses)
+
+
+def line(house, steps):
+    """A book that goes through so many standings and one more, and sends the house told letters that nobody takes."""
+    rows, state = [], 0
+    while steps:
+        many = min(6, steps - 1)
+        rows.append((state, (), state + 1, tuple((house, "abcdefgh"[state] + "abcdef"[k]) for k in range(many)), False))
+        state, steps = state + 1, steps - 1 - many
+    return (("open",) * (state + 1), tuple(rows))
+
+
+def full_reach(more):
+    """An agreement of four houses to which just 4000 standings come without falls, or just one more."""
+    short = (("open",) * 4, (
+        (0, (), 1, (), False), (1, (), 2, (), False), (2, (), 3, ((3, "go"),), False),
+    ))
+    kinds, rows = line(0, 31)
+    last = len(kinds) - 1
+    rows += ((last, ((0, "go"), (1, "go"), (2, "go")), last + 1, (), False),)
+    return (short, short, short, (kinds + ("open",), rows[:len(rows) - 1 + more]))
+
+
+# The modules, their functions, and the names of the arguments, as the document tells them.
+INTERFACE = {
+    "books": {
+        "agreement_error": "value",
+        "kind": "agreement house state",
+        "with_late": "agreement house k late",
+    },
+    "texts": {"agreement_text": "agreement", "read_agreement": "value"},
+    "standings": {"standing_error": "agreement value", "begin": "agreement"},
+    "moving": {
+        "deed_error": "agreement standing value",
+        "open_deeds": "agreement standing",
+        "after": "agreement standing deed",
+        "led": "agreement deeds",
+    },
+    "deedtexts": {"deeds_text": "deeds", "read_deeds": "value"},
+    "reaches": {
+        "reach": "agreement most",
+        "road": "agreement most standing",
+        "clash": "agreement",
+        "stuck": "agreement",
+    },
+    "views": {"view": "agreement standing", "must": "agreement standing", "may": "agreement standing"},
+    "twins": {
+        "twins": "agreement most",
+        "twins_error": "agreement most value",
+        "table": "agreement most bold",
+        "rule_error": "agreement most value",
+    },
+    "endings": {
+        "begun": "agreement standing",
+        "open_endings": "agreement most bold ending",
+        "ended_after": "agreement most bold ending deed",
+        "ends_of": "agreement most bold ending",
+    },
 }
+ARGUMENTS = {name: names for functions in INTERFACE.values() for name, names in functions.items()}
 
 
 def nested(depth, inner=()):

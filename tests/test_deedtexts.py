@@ -88,15 +88,17 @@ class DeedTexts(unittest.TestCase):
             self.assertEqual(self.check_text(f"send 0; row 3 {number}; row 1 1"), number in range(12))
 
     def test_integers_that_are_not_written_so(self):
-        for wrong in ("", "00", "01", "001", "+1", "-1", "-0", "1_0", "1.0", "1.", "0x1", "1e0", "one", "True", "a", "b",
-                      "\u0661", "\u00b9", "\uff11", "1\n", "\t1", "1,", "(1)", "9" * 4400, "0" * 4400 + "1", "1" * 19000):
+        for wrong in (
+                "", "00", "01", "001", "+1", "-1", "-0", "1_0", "1.0", "1.", "0x1", "1e0", "one", "True", "a", "b",
+                "\u0661", "\u00b9", "\uff11", "1\n", "\t1", "1,", "(1)", "9" * 4400, "0" * 4400 + "1", "1" * 19000):
             for text in ("send {}", "fall {}", "row {} 0", "row 0 {}", "send 1; fall {}", "row 1 {}; send 1"):
                 self.check_bad(text.format(wrong))
 
     def test_blanks_and_semicolons(self):
         good = "row 0 11; send 2; fall 3"
         self.assertTrue(self.check_text(good))
-        for sign in (" ", ";", "; ", " ;", ";;", "\n", "\t", "\r", "\x0b", "\x0c", "\x85", "\xa0", "\u2003", ",", ".", ""):
+        for sign in (
+                " ", ";", "; ", " ;", ";;", "\n", "\t", "\r", "\x0b", "\x0c", "\x85", "\xa0", "\u2003", ",", ".", ""):
             for place in range(len(good) + 1):
                 self.check_text(good[:place] + sign + good[place:])
                 self.check_text(good[:place] + sign + good[place + 1:])
@@ -105,15 +107,16 @@ class DeedTexts(unittest.TestCase):
             self.check_bad(good.replace("; ", ";" + sign) if sign != " " else "send 0 ; send 1")
 
     def test_words_and_how_many_integers(self):
-        for text in ("row", "row ", "row 0", "row 0 ", "row 0 0 0", "row 0 0 ", "send", "send ", "send 0 0", "fall", "fall 0 0",
-                     "fall ", " fall 0", "fall  0", "Fall 0", "FALL 0", "falls 0", "fal 0", "sends 0", "rows 0 0", "Row 0 0",
-                     "late 0 0", "bind 0", "end 0", "0 fall", "0", "0 0", "0 0 row", "fall0", "fall:0", "send,0", "undo",
-                     "fall 0 row 0 0", "fall 0 fall 0", "row 0 0 fall 0", "row send 0", "('fall', 0)", "fall none"):
+        for text in (
+                "row", "row ", "row 0", "row 0 ", "row 0 0 0", "row 0 0 ", "send", "send ", "send 0 0", "fall", "fall ",
+                "fall 0 0", " fall 0", "fall  0", "Fall 0", "FALL 0", "falls 0", "fal 0", "sends 0", "rows 0 0",
+                "Row 0 0", "late 0 0", "bind 0", "end 0", "0 fall", "0", "0 0", "0 0 row", "fall0", "fall:0", "send,0",
+                "undo", "fall 0 row 0 0", "fall 0 fall 0", "row 0 0 fall 0", "row send 0", "('fall', 0)", "fall none"):
             self.check_bad(text, text + "; send 0", "send 0; " + text, f"fall 1; {text}; fall 2")
 
     def test_values_of_all_kinds(self):
         self.check_bad(*any_values())
-        self.check_bad((("fall", 0),), [("fall", 0)], ("fall", 0), ["fall 0"], ("fall 0",), {"fall 0": "fall 0"}, ("none",))
+        self.check_bad((("fall", 0),), [("fall", 0)], ("fall", 0), ["fall 0"], ("fall 0",), ("none",), {"fall 0": 0})
 
     def test_long_strings(self):
         for sign in "f; 0rn\n":

@@ -1,7 +1,9 @@
-"""The rules of the language that later changes break most easily: sizes, signs, imports, names of files."""
+"""The rules of the language that later changes break most easily: sizes, signs, imports, names, builtins, methods."""
 
 import ast
+import builtins
 import pathlib
+import re
 import unittest
 
 import leftstanding
@@ -17,6 +19,41 @@ LIBRARY = {
     "collections": {"defaultdict", "deque"},
     "__future__": {"annotations"},
 }
+# As LANGUAGE.md lists them, without chr, which it takes back, and print.
+BUILTINS = set("""
+    len range enumerate zip min max sum abs sorted reversed int str bool bytes list tuple dict set frozenset isinstance
+    ord repr any all divmod pow getattr hasattr setattr iter next map super property staticmethod classmethod Exception
+    ValueError TypeError KeyError IndexError LookupError ZeroDivisionError ArithmeticError OverflowError RuntimeError
+    NotImplementedError AttributeError StopIteration NotImplemented
+""".split())
+METHODS = set("""
+    append clear copy count endswith extend find get index insert isalnum isalpha isdigit islower isspace isupper items
+    join keys ljust lower lstrip partition pop remove replace reverse rfind rjust rpartition rsplit rstrip setdefault
+    split splitlines startswith strip update upper values zfill bit_length title capitalize swapcase casefold center
+    expandtabs removeprefix removesuffix rindex isascii isdecimal isnumeric istitle isidentifier isprintable sort add
+    discard appendleft popleft
+""".split())
+WORDS = set("""
+    type typing typing_extensions enum Enum IntEnum StrEnum Flag IntFlag Generic Protocol ABC ABCMeta namedtuple
+    NamedTuple TypedDict TYPE_CHECKING abstractmethod
+""".split())
+
+
+def bound_names(tree):
+    """All names that the tree binds, but imports: functions, classes, parameters, variables, caught errors."""
+    for node in ast.walk(tree):
+        if isinstance(node, (ast.FunctionDef, ast.ClassDef)):
+            yield node.name
+        if isinstance(node, ast.arg):
+            yield node.arg
+        if isinstance(node, ast.Name) and not isinstance(node.ctx, ast.Load):
+            yield node.id
+        if isinstance(node, ast.ExceptHandler) and node.name:
+            yield node.name
+
+
+def imported_names(tree):
+    return [name.name for node in ast.walk(tree) if isinstance(node, ast.ImportFrom) for name in node.names]
 
 
 class Language(unittest.TestCase):
@@ -56,6 +93,54 @@ class Language(unittest.TestCase):
                     if node.module.split(".")[0] != "leftstanding":
                         self.assertLessEqual(names, LIBRARY.get(node.module, set()), path)
                     self.assertNotIn("*", names)
+
+    def test_names(self):
+        for path, text in self.sources():
+            tree = ast.parse(text)
+            bound, imported = set(bound_names(tree)), imported_names(tree)
+            top = [node.name for node in tree.body if isinstance(node, (ast.FunctionDef, ast.ClassDef))]
+            top += [target.id for node in tree.body if isinstance(node, ast.Assign) for target in node.targets]
+            self.assertEqual(len(set(top + imported)), len(top + imported), path)
+            self.assertFalse(bound & set(imported), path)
+            self.assertFalse({name for name in bound if not name.startswith("__")} & set(dir(builtins)) - {"_"}, path)
+            for name in bound:
+                self.assertRegex(name, r"\A(_?[A-Za-z][A-Za-z0-9_]*|_|__init__)\Z")
+
+    def test_builtins_and_methods(self):
+        for path, text in self.sources():
+            tree = ast.parse(text)
+            known = set(bound_names(tree)) | set(imported_names(tree)) | BUILTINS
+            own = {node.name for node in ast.walk(tree) if isinstance(node, ast.FunctionDef)}
+            for node in ast.walk(tree):
+                if isinstance(node, ast.Name):
+                    self.assertIn(node.id, known, (path, node.lineno))
+                if isinstance(node, ast.Call) and isinstance(node.func, ast.Attribute):
+                    self.assertIn(node.func.attr, METHODS | own | {"__init__"}, (path, node.lineno))
+
+    def test_words_and_strings(self):
+        for path, text in self.sources():
+            tree = ast.parse(text)
+            notes = {ast.get_docstring(node, clean=False) for node in ast.walk(tree)
+                     if isinstance(node, (ast.Module, ast.FunctionDef, ast.ClassDef))}
+            for node in ast.walk(tree):
+                if isinstance(node, ast.Constant) and isinstance(node.value, str) and node.value not in notes:
+                    self.assertNotIn("%", node.value, path)
+                    self.assertFalse(set(re.findall(r"\w+", node.value)) & WORDS, path)
+            for name in list(bound_names(tree)) + imported_names(tree):
+                self.assertNotIn(name, WORDS | {"open", "input", "register", "law", "mro", "elements"}, path)
+
+    def test_no_two_files_import_from_each_other(self):
+        edges = {}
+        for path, text in self.sources():
+            edges[path.stem] = {
+                node.module.split(".")[1] for node in ast.walk(ast.parse(text))
+                if isinstance(node, ast.ImportFrom) and node.module.startswith("leftstanding.")
+            }
+        while edges:
+            free = [name for name in edges if not edges[name] & set(edges)]
+            self.assertTrue(free, edges)
+            for name in free:
+                del edges[name]
 
 
 if __name__ == "__main__":

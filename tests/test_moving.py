@@ -128,7 +128,8 @@ class NoDeeds(Case):
 
     def test_words_lengths_and_lists(self):
         for value in (
-                ("row", 0), ("row",), ("row", 0, 0, 0), ("send",), ("send", 0, 0), ("fall", 0, 0), ("fall",), ("fall", ()),
+                ("row", 0), ("row",), ("row", 0, 0, 0), ("send",), ("send", 0, 0), ("fall", 0, 0), ("fall",),
+                ("fall", ()),
                 ["row", 0, 0], ["send", 0], ["fall", 0], ("Row", 0, 0), ("rows", 0, 0), ("ro", 0, 0), ("", 0),
                 ("", 0, 0), (" fall", 0), ("fall ", 0), ("FALL", 0), ("sends", 0), ("sen", 0), ("late", 0, 0),
                 ("bind", 0), ("end", 0), (("fall",), 0), (["fall"], 0), ("fall", [0]), ("row", [0], 0), ("row", 0, [0]),

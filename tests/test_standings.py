@@ -183,7 +183,9 @@ class Standings(Case):
         for wrong in WRONG_INTEGERS:
             self.check(AMID, changed(begin(AMID), (2,), ((wrong, 1, "a"),)), "letters")
             self.check(AMID, changed(begin(AMID), (2,), ((2, wrong, "a"),)), "letters")
-        for word in ("", "sevenab", "A", "a1", "a b", "a\n", " a", "a-", "{", "`", None, 1, True, ("a",), ["a"], "a" * 20000):
+        for word in (
+                "", "sevenab", "A", "a1", "a b", "a\n", " a", "a-", "{", "`", None, 1, True, ("a",), ["a"],
+                "a" * 20000):
             self.check(AMID, changed(begin(AMID), (2,), ((0, 1, word),)), "letters")
             self.check(AMID, changed(begin(AMID), (2,), (a, (2, 1, word))), "letters")
         for word in ("z", "abcdef", "zzzzzz"):

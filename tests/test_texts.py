@@ -182,7 +182,7 @@ class NoTexts(Case):
             self.assertGreater(texts, 50)
 
     def test_words_in_other_places(self):
-        words = ["house", "row", "late", "yes", "open", "done", "off", "0", "1", "2", "<0.a", "<1.a", ">0.a", ">1.a", ""]
+        words = "house row late yes open done off 0 1 2 <0.a <1.a >0.a >1.a".split() + [""]
         text = "house yes off yes\nrow 0 1 <1.a >1.b late\nrow 0 2\nhouse open"
         lines = [line.split(" ") for line in text.split("\n")]
         for line, items in enumerate(lines):
