@@ -1,6 +1,6 @@
 """Ending in two beats: those left bind themselves, and end when all left are bound."""
 
-from leftstanding.books import is_place, is_tuple, put_at
+from leftstanding.books import is_an_integer, is_tuple, put_at
 from leftstanding.errors import Refused
 from leftstanding.moving import after
 from leftstanding.reaches import ENDS
@@ -25,7 +25,7 @@ def open_endings(agreement, most, bold, ending):
 def ended_after(agreement, most, bold, ending, deed):
     """Return the ending behind deed, any value."""
     ends = _ends(agreement, most, bold)
-    if not _is_deed_of_endings(agreement, deed) or deed not in _open_endings(most, ending):
+    if not _can_be_done(most, ending, deed):
         raise Refused(deed)
     return _behind(agreement, ends, ending, deed)
 
@@ -52,12 +52,12 @@ def _ends(agreement, most, bold):
     return {seen: end for seen, end in table(agreement, most, bold)}
 
 
-def _is_deed_of_endings(agreement, value):
-    """Tell whether value is a deed of endings, whether or not it can be done."""
-    if not is_tuple(value, 2, 2):
+def _can_be_done(most, ending, deed):
+    """Tell whether deed, any value, is a deed of endings that can be done."""
+    # Asked first, as True equals 1.
+    if not is_tuple(deed, 2, 2) or not is_an_integer(deed[1]):
         return False
-    word, house = value
-    return word in ("bind", "end", "fall") and is_place(house, len(agreement))
+    return deed in _open_endings(most, ending)
 
 
 def _open_endings(most, ending):
