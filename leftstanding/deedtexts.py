@@ -25,6 +25,15 @@ def read_deeds(value):
     return tuple([_read_deed(text.split(" ")) for text in texts])
 
 
+def integer_of(text, many):
+    """Return the integer from 0 to one less than many of which this is the text; None if it is that of none."""
+    # Looked for, not worked out: so no other way of writing it, and none of thousands of figures, is read.
+    for number in range(many):
+        if text == str(number):
+            return number
+    return None
+
+
 def _read_deed(items):
     """Return the deed of which these are the items."""
     word = items[0]
@@ -37,8 +46,7 @@ def _read_deed(items):
 
 def _read_integer(text, many):
     """Return the integer from 0 to one less than many of which this is the text."""
-    # Looked for, not worked out: so no other way of writing it, and none of thousands of figures, is read.
-    for number in range(many):
-        if text == str(number):
-            return number
-    raise BadText()
+    number = integer_of(text, many)
+    if number is None:
+        raise BadText()
+    return number

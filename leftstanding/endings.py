@@ -3,9 +3,9 @@
 from leftstanding.books import is_an_integer, is_tuple, put_at
 from leftstanding.errors import Refused
 from leftstanding.moving import after
-from leftstanding.reaches import ENDS
+from leftstanding.reaches import ENDS, reach
 from leftstanding.standings import houses_left
-from leftstanding.twins import table
+from leftstanding.twins import ends_told
 from leftstanding.views import kinds_now, view
 
 
@@ -18,7 +18,7 @@ def begun(agreement, standing):
 def open_endings(agreement, most, bold, ending):
     """Return the ascending tuple of all deeds of endings that can be done."""
     # What the table tells is not needed here, but that there is one is.
-    table(agreement, most, bold)
+    _ends(agreement, most, bold)
     return tuple(_open_endings(most, ending))
 
 
@@ -49,7 +49,7 @@ def ends_of(agreement, most, bold, ending):
 
 def _ends(agreement, most, bold):
     """Return the end that the table tells of each view."""
-    return {seen: end for seen, end in table(agreement, most, bold)}
+    return ends_told(agreement, reach(agreement, most), bold)
 
 
 def _can_be_done(most, ending, deed):

@@ -32,7 +32,7 @@ def stuck(agreement):
     """Return the road to the first standing, without falls, in which some house waits for ever; None if none does."""
     origins = origins_of(agreement, 0)
     for standing in origins:
-        if not _has_ended(agreement, standing) and not _deeds(agreement, standing, 0):
+        if not _has_ended(agreement, standing) and not deeds_within(agreement, standing, 0):
             return road_in(origins, standing)
     return None
 
@@ -44,7 +44,7 @@ def origins_of(agreement, most):
     while wave:
         later = []
         for standing in wave:
-            for deed in _deeds(agreement, standing, most):
+            for deed in deeds_within(agreement, standing, most):
                 reached = behind(agreement, standing, deed)
                 if reached not in origins:
                     origins[reached] = (standing, deed)
@@ -66,7 +66,7 @@ def road_in(origins, standing):
     return tuple(deeds[::-1])
 
 
-def _deeds(agreement, standing, most):
+def deeds_within(agreement, standing, most):
     """Return the ascending list of deeds that can be done, those to fall only while fewer than most have fallen."""
     _, _, _, fallen = standing
     return [deed for deed in open_deeds(agreement, standing) if deed[0] != "fall" or len(fallen) < most]

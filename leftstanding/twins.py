@@ -49,19 +49,13 @@ def twins_error(agreement, most, value):
 
 def table(agreement, most, bold):
     """Return the right rule that tells "done" where it has to, or, if bold, wherever it is let."""
-    bounds = _bounds(agreement, most)
-    if any([needed and not let for needed, let in bounds.values()]):
-        raise Unfit()
-    rows = []
-    for seen in sorted(bounds):
-        needed, let = bounds[seen]
-        rows.append((seen, "done" if needed or (bold and let) else "off"))
-    return tuple(rows)
+    ends = ends_told(agreement, reach(agreement, most), bold)
+    return tuple([(seen, ends[seen]) for seen in sorted(ends)])
 
 
 def rule_error(agreement, most, value):
     """Tell what is wrong with value as a right rule; None if it is one."""
-    bounds = _bounds(agreement, most)
+    bounds = bounds_of(agreement, reach(agreement, most))
     if not isinstance(value, tuple) or not all([is_tuple(pair, 2, 2) for pair in value]):
         return "form"
     told = {}
@@ -80,21 +74,29 @@ def rule_error(agreement, most, value):
     return None
 
 
+def bounds_of(agreement, standings):
+    """Return for each view of the standings whether "done" is needed for one of these, and let for all."""
+    bounds = {}
+    for standing in standings:
+        seen = view(agreement, standing)
+        needed, let = bounds.get(seen, (False, True))
+        bounds[seen] = (needed or must(agreement, standing), let and may(agreement, standing))
+    return bounds
+
+
+def ends_told(agreement, standings, bold):
+    """Return the end that the table tells of each view, the standings being all that come."""
+    bounds = bounds_of(agreement, standings)
+    if any([needed and not let for needed, let in bounds.values()]):
+        raise Unfit()
+    return {seen: "done" if needed or (bold and let) else "off" for seen, (needed, let) in bounds.items()}
+
+
 def _leads_on(agreement, most, standing, deed):
     """Tell whether deed, any value, can be done in the standing, so that no more houses than most have fallen."""
     if deed_error(agreement, standing, deed) is not None:
         return False
     return deed[0] != "fall" or len(standing[3]) < most
-
-
-def _bounds(agreement, most):
-    """Return for each view of a standing that comes whether "done" is needed for one of these, and let for all."""
-    bounds = {}
-    for standing in reach(agreement, most):
-        seen = view(agreement, standing)
-        needed, let = bounds.get(seen, (False, True))
-        bounds[seen] = (needed or must(agreement, standing), let and may(agreement, standing))
-    return bounds
 
 
 def _may_be_view(value, depth):
