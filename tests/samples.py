@@ -194,7 +194,30 @@ INTERFACE = {
         "ended_after": "agreement most bold ending deed",
         "ends_of": "agreement most bold ending",
     },
+    "falls": {"blocks": "agreement fallen", "least_blocks": "agreement", "bears": "agreement"},
+    "returns": {"comes_up": "agreement most bold house", "asked": "agreement most bold house state"},
+    "lates": {"late_ones": "agreement most", "latest": "agreement most"},
+    "mending": {"mended": "agreement word"},
+    "costs": {"spent": "agreement end", "beats": "agreement deeds", "quickest": "agreement end"},
+    "makers": {"central": "n", "central_three": "n", "everyone": "n", "chain": "n"},
+    "desks": {"desk_behind": "agreement log"},
 }
+# The classes, and their methods and properties.
+CLASSES = {
+    "desks": {"Desk": {
+        "__init__": "self agreement",
+        "do": "self deed",
+        "make_late": "self house k",
+        "undo": "self",
+        "open_ones": "self",
+        "view": "self",
+        "end": "self most bold",
+        "copy": "self",
+        "__eq__": "self other",
+    }},
+    "shells": {"Shell": {"__init__": "self", "say": "self line"}},
+}
+PROPERTIES = ("agreement", "standing", "version", "log")
 ARGUMENTS = {name: names for functions in INTERFACE.values() for name, names in functions.items()}
 
 

@@ -3,13 +3,16 @@ import inspect
 import unittest
 
 from leftstanding.deedtexts import deeds_text
+from leftstanding.desks import Desk
 from leftstanding.endings import begun
 from leftstanding.reaches import reach
 from leftstanding.standings import begin
 from leftstanding.texts import agreement_text
 from leftstanding.twins import table, twins
 from drawn import drawn_run
-from samples import AGREED, COIN, HASTY, INTERFACE, LATE, PAIR, SPREAD, UNLIKE, any_values, outcome, same
+from samples import (
+    AGREED, CLASSES, COIN, HASTY, INTERFACE, LATE, PAIR, PROPERTIES, SPREAD, UNLIKE, any_values, outcome, same,
+)
 
 
 def functions():
@@ -30,6 +33,18 @@ class Interface(unittest.TestCase):
             for parameter in parameters:
                 self.assertEqual(parameter.kind, parameter.POSITIONAL_OR_KEYWORD)
                 self.assertIs(parameter.default, parameter.empty)
+
+    def test_classes(self):
+        for module, classes in CLASSES.items():
+            for name, methods in classes.items():
+                found = getattr(importlib.import_module(f"leftstanding.{module}"), name)
+                self.assertTrue(inspect.isclass(found), name)
+                self.assertEqual((found.__module__, found.__name__), (f"leftstanding.{module}", name))
+                for method, arguments in methods.items():
+                    self.assertTrue(inspect.isfunction(vars(found)[method]), method)
+                    self.assertEqual(list(inspect.signature(vars(found)[method]).parameters), arguments.split())
+        for name in PROPERTIES:
+            self.assertIsInstance(vars(Desk)[name], property)
 
 
 def calls_of(agreement):
@@ -54,6 +69,11 @@ def calls_of(agreement):
         "ending": [begun(agreement, standing) for standing in (standings[0], reach(agreement, 0)[-1])],
         "value": values,
         "deed": [("fall", 0), ("row", 0, 0), ("send", 1), ("bind", 0), ("end", 1)],
+        "fallen": [(), (0,), (1,)],
+        "word": ["ready", "do", "Ready", None],
+        "end": ["done", "off"],
+        "n": [2, 3],
+        "log": [(("row", 0, 0), ("late", 1, 0)), (("fall", 0), ("fall", 0)), None],
     }
     for module, name, arguments in functions():
         found = getattr(importlib.import_module(f"leftstanding.{module}"), name)

@@ -52,6 +52,11 @@ def bound_names(tree):
             yield node.name
 
 
+def method_names(tree):
+    return {node.name for one in ast.walk(tree) if isinstance(one, ast.ClassDef)
+            for node in one.body if isinstance(node, ast.FunctionDef)}
+
+
 def imported_names(tree):
     return [name.name for node in ast.walk(tree) if isinstance(node, ast.ImportFrom) for name in node.names]
 
@@ -97,25 +102,48 @@ class Language(unittest.TestCase):
     def test_names(self):
         for path, text in self.sources():
             tree = ast.parse(text)
-            bound, imported = set(bound_names(tree)), imported_names(tree)
+            imported, methods = imported_names(tree), method_names(tree)
+            bound = set(bound_names(tree))
             top = [node.name for node in tree.body if isinstance(node, (ast.FunctionDef, ast.ClassDef))]
             top += [target.id for node in tree.body if isinstance(node, ast.Assign) for target in node.targets]
             self.assertEqual(len(set(top + imported)), len(top + imported), path)
-            self.assertFalse(bound & set(imported), path)
-            self.assertFalse({name for name in bound if not name.startswith("__")} & set(dir(builtins)) - {"_"}, path)
+            # A method may have the name of an import, as it is never called by its bare name.
+            self.assertFalse((bound - methods) & set(imported), path)
+            self.assertFalse((bound - {"__init__", "__eq__"}) & set(dir(builtins)) - {"_"}, path)
             for name in bound:
-                self.assertRegex(name, r"\A(_?[A-Za-z][A-Za-z0-9_]*|_|__init__)\Z")
+                self.assertRegex(name, r"\A(_?[A-Za-z][A-Za-z0-9_]*|_|__init__|__eq__)\Z")
 
     def test_builtins_and_methods(self):
+        own = {name for _, text in self.sources() for name in method_names(ast.parse(text))}
         for path, text in self.sources():
             tree = ast.parse(text)
             known = set(bound_names(tree)) | set(imported_names(tree)) | BUILTINS
-            own = {node.name for node in ast.walk(tree) if isinstance(node, ast.FunctionDef)}
             for node in ast.walk(tree):
                 if isinstance(node, ast.Name):
                     self.assertIn(node.id, known, (path, node.lineno))
                 if isinstance(node, ast.Call) and isinstance(node.func, ast.Attribute):
-                    self.assertIn(node.func.attr, METHODS | own | {"__init__"}, (path, node.lineno))
+                    self.assertIn(node.func.attr, METHODS | own, (path, node.lineno))
+
+    def test_what_a_class_with_eq_bars(self):
+        """No generator expressions, no sort, no sets that are kept, only properties as decorators, `is` with None."""
+        for path, text in self.sources():
+            for node in ast.walk(ast.parse(text)):
+                self.assertNotIsInstance(node, (ast.GeneratorExp, ast.Lambda, ast.Global, ast.Nonlocal, ast.SetComp))
+                if isinstance(node, ast.Attribute):
+                    self.assertNotIn(node.attr, ("sort", "args"), path)
+                for decorator in getattr(node, "decorator_list", ()):
+                    self.assertEqual(ast.unparse(decorator), "property")
+                if isinstance(node, ast.Compare) and isinstance(node.ops[0], (ast.Is, ast.IsNot)):
+                    self.assertIsNone(ast.literal_eval(node.comparators[0]))
+
+    def test_errors_that_are_caught(self):
+        errors = ast.parse((FOLDER / "errors.py").read_text(encoding="utf-8"))
+        own = {node.name for node in errors.body if isinstance(node, ast.ClassDef)}
+        for path, text in self.sources():
+            for node in ast.walk(ast.parse(text)):
+                if isinstance(node, ast.ExceptHandler):
+                    self.assertIn(node.type.id, own, path)
+                    self.assertIsNone(node.name)
 
     def test_words_and_strings(self):
         for path, text in self.sources():
