@@ -22,7 +22,7 @@ def bears(agreement):
 
 def _lots_that_block(agreement, most):
     """Return the ascending list of all lots of no more houses than most that block."""
-    houses = range(len(agreement))
+    houses = list(range(len(agreement)))
     lots = {}
     for (left, _, _, _), (needed, let) in bounds_of(agreement, reach(agreement, most)).items():
         if needed and not let:

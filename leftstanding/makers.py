@@ -6,7 +6,7 @@ THREE_KINDS = ("open", "yes", "yes", "done", "off")
 
 def central(n):
     """Return the agreement in which the house 0 asks all others, and tells them."""
-    others = range(1, n)
+    others = list(range(1, n))
     zero = [_row(0, (), 1, _letters(others, "ask")), _row(0, (), 3, _letters(others, "off"))]
     zero.append(_row(1, _letters(others, "yes"), 2, _letters(others, "done")))
     zero = zero + [_row(1, _letters((other,), "no"), 3, _letters(others, "off")) for other in others]
@@ -16,7 +16,7 @@ def central(n):
 
 def central_three(n):
     """Return the agreement in which the house 0 asks all others, and tells them when all have heard of it."""
-    others = range(1, n)
+    others = list(range(1, n))
     zero = [_row(0, (), 1, _letters(others, "ask")), _row(0, (), 4, _letters(others, "off"))]
     zero.append(_row(1, _letters(others, "yes"), 2, _letters(others, "ready")))
     zero = zero + [_row(1, _letters((other,), "no"), 4, _letters(others, "off")) for other in others]

@@ -4,6 +4,7 @@ import ast
 import builtins
 import pathlib
 import re
+import textwrap
 import unittest
 
 import leftstanding
@@ -37,6 +38,81 @@ WORDS = set("""
     type typing typing_extensions enum Enum IntEnum StrEnum Flag IntFlag Generic Protocol ABC ABCMeta namedtuple
     NamedTuple TypedDict TYPE_CHECKING abstractmethod
 """.split())
+
+# What is to be walked on the spot, and what walks the first thing that it is passed.
+LAZY = {"range", "zip", "enumerate", "reversed"}
+VIEWS = {"items", "keys", "values"}
+WALKERS = {"list", "tuple", "dict", "sorted", "sum", "any", "all", "enumerate", "zip", "bytes"}
+WALKED = """
+    for k in range(3): pass
+    for k in reversed(range(n)): pass
+    xs = list(range(1, n))
+    xs = [k for k in table.values() if k in range(3)]
+    xs = {name: worth for name, worth in table.items()}
+    xs = dict(zip(ones, others))
+    xs = sorted(enumerate(zip(ones, others)), reverse=True)
+    xs = max(table.values()) + min(range(n), default=0) + len(range(n)) + len(table.items())
+    xs = ", ".join(table.keys()) if name in table.keys() else ""
+"""
+NOT_WALKED = """
+    xs = range(1, n)
+    xs, ys = range(2)
+    xs = ys = zip(ones, others)
+    xs: list = enumerate(ones)
+    box.rows = reversed(ones)
+    box.rows = table.items()
+    xs = [range(3)]
+    xs = ones or table.values()
+    if (xs := table.keys()): pass
+    letters(range(1, n), "ask")
+    letters(*range(n))
+    letters(houses=range(n))
+    xs = set(range(3))
+    xs = max(range(n), 3)
+    xs = sum(ones, range(n))
+    for one, k in zip(ones, range(n)): pass
+    xs = zip(ones, others)[0]
+    xs = len(zip(ones, others))
+    for k in reversed(table.items()): pass
+    xs = range(n) == ones
+    xs = one in zip(ones, others)
+    xs = sep.join(table.keys())
+    def told(n): return range(n)
+    def told(xs=range(3)): pass
+"""
+
+
+def is_lazy(node, names=LAZY, views=VIEWS):
+    """Tell whether the node is a call of one of these builtins, or of a method that gives one of these views."""
+    if not isinstance(node, ast.Call):
+        return False
+    if isinstance(node.func, ast.Name):
+        return node.func.id in names
+    return isinstance(node.func, ast.Attribute) and node.func.attr in views and not node.args
+
+
+def walked_by(node):
+    """The nodes that this one walks on the spot."""
+    if isinstance(node, (ast.For, ast.comprehension)):
+        return [node.iter]
+    if isinstance(node, ast.Compare) and isinstance(node.ops[0], (ast.In, ast.NotIn)):
+        return [one for one in node.comparators if is_lazy(one, {"range"}, {"keys"})]
+    if not isinstance(node, ast.Call):
+        return []
+    name = node.func.id if isinstance(node.func, ast.Name) else None
+    if name in WALKERS or (name in ("min", "max") and len(node.args) == 1):
+        return node.args[:1]
+    if name in ("len", "reversed"):
+        return [one for one in node.args if is_lazy(one, {"range"}, VIEWS if name == "len" else set())]
+    if isinstance(node.func, ast.Attribute) and node.func.attr == "join" and isinstance(node.func.value, ast.Constant):
+        return node.args
+    return []
+
+
+def rows_not_walked(tree):
+    """The rows with a range, a zip or the like that is not walked on the spot; LANGUAGE.md lets some be kept."""
+    walked = {id(one) for node in ast.walk(tree) for one in walked_by(node)}
+    return [node.lineno for node in ast.walk(tree) if is_lazy(node) and id(node) not in walked]
 
 
 def bound_names(tree):
@@ -144,6 +220,16 @@ class Language(unittest.TestCase):
                 if isinstance(node, ast.ExceptHandler):
                     self.assertIn(node.type.id, own, path)
                     self.assertIsNone(node.name)
+
+    def test_ranges_and_the_like_are_walked_on_the_spot(self):
+        for path, text in self.sources():
+            self.assertEqual(rows_not_walked(ast.parse(text)), [], path)
+
+    def test_which_ranges_and_the_like_are_told(self):
+        for line in textwrap.dedent(WALKED).strip().split("\n"):
+            self.assertEqual(rows_not_walked(ast.parse(line)), [], line)
+        for line in textwrap.dedent(NOT_WALKED).strip().split("\n"):
+            self.assertEqual(rows_not_walked(ast.parse("pass\n" + line)), [2], line)
 
     def test_words_and_strings(self):
         for path, text in self.sources():
